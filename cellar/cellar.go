@@ -3,11 +3,16 @@ package cellar
 
 import (
 	"cellar/api"
+	"cellar/contents"
+	"cellar/journal"
 	"cellar/source"
 )
 
-// Store is an open store.
-type Store struct{}
+// Store is an open store. One of its files tells what it holds, the other is empty.
+type Store struct {
+	held *contents.Contents
+	file int // the one that tells it
+}
 
 // Check tells the first token that cannot stand in a source (P3).
 func Check(src string) (int, api.Errno) {
@@ -25,28 +30,66 @@ func Show(src string) (string, api.Errno) {
 }
 
 // Open opens the store that two files hold (P5, P11).
-func Open(a string, b string) (*Store, []api.Act, api.Errno) { return nil, nil, api.OK }
+func Open(a string, b string) (*Store, []api.Act, api.Errno) {
+	held, file, err := journal.Read(a, b)
+	if err != api.OK {
+		return nil, nil, err
+	}
+	x := &Store{held: held, file: file}
+	acts := x.move()
+	return x, acts, api.OK
+}
 
 // Get tells what is in a cell, and whether it is there (P6).
-func (x *Store) Get(key int) (int, bool, api.Errno) { return 0, false, api.OK }
+func (x *Store) Get(key int) (int, bool, api.Errno) {
+	return x.held.Get(key)
+}
 
 // Put puts a value into a cell (P6).
-func (x *Store) Put(key int, value int) ([]api.Act, api.Errno) { return nil, api.OK }
+func (x *Store) Put(key int, value int) ([]api.Act, api.Errno) {
+	err := x.held.Put(key, value)
+	if err != api.OK {
+		return nil, err
+	}
+	return x.tell(journal.Put(key, value)), api.OK
+}
 
 // Del empties a cell (P6).
-func (x *Store) Del(key int) ([]api.Act, api.Errno) { return nil, api.OK }
+func (x *Store) Del(key int) ([]api.Act, api.Errno) {
+	err := x.held.Del(key)
+	if err != api.OK {
+		return nil, err
+	}
+	return x.tell(journal.Del(key)), api.OK
+}
 
 // Cells lists the cells that are there (P6).
-func (x *Store) Cells() []api.Cell { return nil }
+func (x *Store) Cells() []api.Cell {
+	return x.held.Cells()
+}
 
 // Install keeps a procedure (P7).
-func (x *Store) Install(name string, src string) (int, []api.Act, api.Errno) { return 0, nil, api.OK }
+func (x *Store) Install(name string, src string) (int, []api.Act, api.Errno) {
+	place, err := x.held.Install(name, src)
+	if err != api.OK {
+		return place, nil, err
+	}
+	return 0, x.tell(journal.Install(name, src)), api.OK
+}
 
 // Drop forgets a procedure (P7).
-func (x *Store) Drop(name string) ([]api.Act, api.Errno) { return nil, api.OK }
+func (x *Store) Drop(name string) ([]api.Act, api.Errno) {
+	err := x.held.Drop(name)
+	if err != api.OK {
+		return nil, err
+	}
+	return x.tell(journal.Drop(name)), api.OK
+}
 
 // Procs lists the procedures that are kept (P7).
-func (x *Store) Procs() []api.Proc { return nil }
+func (x *Store) Procs() []api.Proc {
+	return x.held.Procs()
+}
 
 // Call runs a procedure (P8, P9).
 func (x *Store) Call(name string, args []int, fuel int) (api.Outcome, []api.Act, api.Errno) {

@@ -1,0 +1,272 @@
+package cellar_test
+
+import (
+	"fmt"
+	"maps"
+	"slices"
+	"strings"
+	"testing"
+
+	"cellar/api"
+	"cellar/cellar"
+)
+
+// disk: two files, and how many of their first bytes are lasting.
+type disk struct {
+	file    [2]string
+	lasting [2]int
+}
+
+func (d *disk) play(t *testing.T, acts []api.Act) {
+	t.Helper()
+	for _, act := range acts {
+		if act.File < 0 || act.File > 1 || (act.Kind != api.Append && act.Bytes != "") {
+			t.Fatalf("P12: the act %+v", act)
+		}
+		switch act.Kind {
+		case api.Append:
+			d.file[act.File] += act.Bytes
+		case api.Sync:
+			d.lasting[act.File] = len(d.file[act.File])
+		case api.Erase:
+			d.file[act.File], d.lasting[act.File] = "", 0
+		default:
+			t.Fatalf("P12: the act %+v", act)
+		}
+	}
+}
+
+// crashes gives all that a crash may leave of the files.
+func (d disk) crashes() []disk {
+	var all []disk
+	for a := d.lasting[0]; a <= len(d.file[0]); a++ {
+		for b := d.lasting[1]; b <= len(d.file[1]); b++ {
+			all = append(all, disk{[2]string{d.file[0][:a], d.file[1][:b]}, [2]int{a, b}})
+		}
+	}
+	return all
+}
+
+// model: the contents that a store is to have, kept in another way than the store's.
+type model struct {
+	cells map[int]int
+	procs map[string]string
+}
+
+func newModel() model {
+	return model{map[int]int{}, map[string]string{}}
+}
+
+func (m model) clone() model {
+	return model{maps.Clone(m.cells), maps.Clone(m.procs)}
+}
+
+func (m model) listCells() []api.Cell {
+	var list []api.Cell
+	for _, key := range slices.Sorted(maps.Keys(m.cells)) {
+		list = append(list, api.Cell{Key: key, Value: m.cells[key]})
+	}
+	return list
+}
+
+func (m model) listProcs() []api.Proc {
+	var list []api.Proc
+	for _, name := range slices.Sorted(maps.Keys(m.procs)) {
+		list = append(list, api.Proc{Name: name, Source: m.procs[name]})
+	}
+	return list
+}
+
+func (m model) text() string {
+	return fmt.Sprintf("%v %q", m.listCells(), m.listProcs())
+}
+
+func textOf(x *cellar.Store) string {
+	return fmt.Sprintf("%v %q", x.Cells(), x.Procs())
+}
+
+// room: what both files together may hold behind an Open or a Compact (P12).
+func (m model) room() int {
+	room := 64 + 32*len(m.cells)
+	for _, src := range m.procs {
+		room += 64 + 2*len(src)
+	}
+	return room
+}
+
+// change: a call that may change the contents.
+type change struct {
+	kind       string // put, del, install, drop
+	key, value int
+	name, src  string
+}
+
+// answer: what a change answers but for its acts, and how much it may append.
+type answer struct {
+	place int
+	err   api.Errno
+	room  int
+}
+
+// make changes the model as the document says.
+func (m model) make(c change) answer {
+	old, kept := m.procs[c.name]
+	switch c.kind {
+	case "put":
+		if c.key < 0 || c.key > 99 {
+			return answer{err: api.ErrKey}
+		}
+		if c.value < -1000000000 || c.value > 1000000000 {
+			return answer{err: api.ErrArg}
+		}
+		m.cells[c.key] = c.value
+		return answer{room: 64 + 32}
+	case "del":
+		if c.key < 0 || c.key > 99 {
+			return answer{err: api.ErrKey}
+		}
+		delete(m.cells, c.key)
+		return answer{room: 64 + 32}
+	case "install":
+		if c.name == "" || len(c.name) > 8 || strings.Trim(c.name, "abcdefghijklmnopqrstuvwxyz") != "" {
+			return answer{err: api.ErrName}
+		}
+		if place, err := referenceCheck(c.src); err != api.OK {
+			return answer{place: place, err: err}
+		}
+		if !kept && len(m.procs) == 8 {
+			return answer{err: api.ErrFull}
+		}
+		m.procs[c.name] = c.src
+		room := 64 + 2*(len(c.name)+len(c.src))
+		if kept {
+			room += 2 * (len(c.name) + len(old))
+		}
+		return answer{room: room}
+	}
+	if !kept {
+		return answer{err: api.ErrName}
+	}
+	delete(m.procs, c.name)
+	return answer{room: 64 + 2*(len(c.name)+len(old))}
+}
+
+// ask makes the change on a store.
+func ask(x *cellar.Store, c change) (int, []api.Act, api.Errno) {
+	switch c.kind {
+	case "put":
+		acts, err := x.Put(c.key, c.value)
+		return 0, acts, err
+	case "del":
+		acts, err := x.Del(c.key)
+		return 0, acts, err
+	case "install":
+		return x.Install(c.name, c.src)
+	}
+	acts, err := x.Drop(c.name)
+	return 0, acts, err
+}
+
+// use: a use of the files, and what the store is to hold in it.
+type use struct {
+	disk  disk
+	store *cellar.Store
+	// what Open may find: what lasts, and behind it what each later change made
+	// of it, the newest last; never without any
+	may []model
+}
+
+// newUse: a use whose first Open has been played.
+func newUse(t *testing.T) *use {
+	t.Helper()
+	u := &use{may: []model{newModel()}}
+	u.disk.play(t, u.open(t, false))
+	u.opened(t)
+	return u
+}
+
+func (u *use) now() model {
+	return u.may[len(u.may)-1]
+}
+
+// open: the acts are still to be played.
+func (u *use) open(t *testing.T, crashed bool) []api.Act {
+	t.Helper()
+	x, acts, err := cellar.Open(u.disk.file[0], u.disk.file[1])
+	if x == nil || err != api.OK {
+		t.Fatalf("P5: Open(%q, %q) = %v, %d", u.disk.file[0], u.disk.file[1], x, err)
+	}
+	if len(acts) > api.MaxActs {
+		t.Fatalf("P12: Open(%q, %q) answers %d acts", u.disk.file[0], u.disk.file[1], len(acts))
+	}
+	found := len(u.may) - 1
+	for crashed && found > 0 && u.may[found].text() != textOf(x) {
+		found--
+	}
+	if u.may[found].text() != textOf(x) {
+		t.Fatalf("P11: Open(%q, %q) gives %s, but it may be one of %v", u.disk.file[0], u.disk.file[1], textOf(x), u.may)
+	}
+	u.may = u.may[:found+1]
+	u.store = x
+	return acts
+}
+
+// opened: all acts of the last Open have been played.
+func (u *use) opened(t *testing.T) {
+	t.Helper()
+	u.may = []model{u.now()}
+	if size := len(u.disk.file[0]) + len(u.disk.file[1]); size > u.now().room() {
+		t.Fatalf("P12: behind Open the files hold %q and %q: %d bytes, of at most %d", u.disk.file[0], u.disk.file[1], size, u.now().room())
+	}
+}
+
+// make: the acts are still to be played.
+func (u *use) make(t *testing.T, c change) []api.Act {
+	t.Helper()
+	next := u.now().clone()
+	want := next.make(c)
+	place, acts, err := ask(u.store, c)
+	if place != want.place || err != want.err {
+		t.Fatalf("P6, P7: %+v answers %d, %d, want %d, %d", c, place, err, want.place, want.err)
+	}
+	if textOf(u.store) != next.text() {
+		t.Fatalf("P6, P7: behind %+v the store holds %s, want %s", c, textOf(u.store), next.text())
+	}
+	if err == api.OK {
+		u.may = append(slices.Clone(u.may), next)
+	}
+	if err != api.OK && len(acts) > 0 {
+		t.Fatalf("P12: %+v answers %d, and the acts %v", c, err, acts)
+	}
+	expectActsOfChange(t, acts, want.room)
+	return acts
+}
+
+func expectActsOfChange(t *testing.T, acts []api.Act, room int) {
+	t.Helper()
+	size := 0
+	for _, act := range acts {
+		size += len(act.Bytes)
+		if act.Kind == api.Erase {
+			t.Fatalf("P12: a change erases: %v", acts)
+		}
+	}
+	if len(acts) > api.MaxActs || size > room {
+		t.Fatalf("P12: the acts %v append %d bytes, of at most %d", acts, size, room)
+	}
+}
+
+// do: a change, its acts played.
+func (u *use) do(t *testing.T, changes ...change) {
+	t.Helper()
+	for _, c := range changes {
+		u.disk.play(t, u.make(t, c))
+	}
+}
+
+// reopen: Open without a crash, its acts played.
+func (u *use) reopen(t *testing.T) {
+	t.Helper()
+	u.disk.play(t, u.open(t, false))
+	u.opened(t)
+}
