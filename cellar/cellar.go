@@ -5,6 +5,7 @@ import (
 	"cellar/api"
 	"cellar/contents"
 	"cellar/journal"
+	"cellar/run"
 	"cellar/source"
 )
 
@@ -93,7 +94,15 @@ func (x *Store) Procs() []api.Proc {
 
 // Call runs a procedure (P8, P9).
 func (x *Store) Call(name string, args []int, fuel int) (api.Outcome, []api.Act, api.Errno) {
-	return api.Outcome{}, nil, api.OK
+	src, err := x.held.Source(name)
+	if err != api.OK {
+		return api.Outcome{}, nil, err
+	}
+	outcome, writes, err := run.Run(x.held, src, args, fuel)
+	if err != api.OK {
+		return outcome, nil, err
+	}
+	return outcome, x.write(writes), api.OK
 }
 
 // Sync makes lasting what there is (P10).

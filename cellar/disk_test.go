@@ -96,21 +96,22 @@ func (m model) room() int {
 
 // change: a call that may change the contents.
 type change struct {
-	kind       string // put, del, install, drop
+	kind       string // put, del, install, drop, call
 	key, value int
 	name, src  string
+	args       []int
+	fuel       int
 }
 
-// answer: what a change answers but for its acts, and how much it may append.
+// answer: what a change answers but for its acts.
 type answer struct {
-	place int
-	err   api.Errno
-	room  int
+	place   int
+	outcome api.Outcome
+	err     api.Errno
 }
 
 // make changes the model as the document says.
 func (m model) make(c change) answer {
-	old, kept := m.procs[c.name]
 	switch c.kind {
 	case "put":
 		if c.key < 0 || c.key > 99 {
@@ -120,51 +121,93 @@ func (m model) make(c change) answer {
 			return answer{err: api.ErrArg}
 		}
 		m.cells[c.key] = c.value
-		return answer{room: 64 + 32}
 	case "del":
 		if c.key < 0 || c.key > 99 {
 			return answer{err: api.ErrKey}
 		}
 		delete(m.cells, c.key)
-		return answer{room: 64 + 32}
 	case "install":
-		if c.name == "" || len(c.name) > 8 || strings.Trim(c.name, "abcdefghijklmnopqrstuvwxyz") != "" {
+		return m.install(c)
+	case "drop":
+		if _, kept := m.procs[c.name]; !kept {
 			return answer{err: api.ErrName}
 		}
-		if place, err := referenceCheck(c.src); err != api.OK {
-			return answer{place: place, err: err}
-		}
-		if !kept && len(m.procs) == 8 {
-			return answer{err: api.ErrFull}
-		}
-		m.procs[c.name] = c.src
-		room := 64 + 2*(len(c.name)+len(c.src))
-		if kept {
-			room += 2 * (len(c.name) + len(old))
-		}
-		return answer{room: room}
+		delete(m.procs, c.name)
+	case "call":
+		return m.call(c)
 	}
+	return answer{}
+}
+
+func (m model) install(c change) answer {
+	if c.name == "" || len(c.name) > 8 || strings.Trim(c.name, "abcdefghijklmnopqrstuvwxyz") != "" {
+		return answer{err: api.ErrName}
+	}
+	if place, err := referenceCheck(c.src); err != api.OK {
+		return answer{place: place, err: err}
+	}
+	if _, kept := m.procs[c.name]; !kept && len(m.procs) == 8 {
+		return answer{err: api.ErrFull}
+	}
+	m.procs[c.name] = c.src
+	return answer{}
+}
+
+func (m model) call(c change) answer {
+	src, kept := m.procs[c.name]
 	if !kept {
 		return answer{err: api.ErrName}
 	}
-	delete(m.procs, c.name)
-	return answer{room: 64 + 2*(len(c.name)+len(old))}
+	beyond := func(arg int) bool { return arg < -1000000000 || arg > 1000000000 }
+	if len(c.args) > 4 || slices.ContainsFunc(c.args, beyond) || c.fuel < 0 || c.fuel > 10000 {
+		return answer{err: api.ErrArg}
+	}
+	cells, outcome, err := referenceCall(src, m.cells, c.args, c.fuel)
+	if err == api.OK {
+		clear(m.cells)
+		maps.Copy(m.cells, cells)
+	}
+	return answer{outcome: outcome, err: err}
+}
+
+// roomOf: how much a change may append (P12) that makes one of these contents
+// out of the other one. A cell that is put or deleted, but stays as it was, is
+// not counted, so that the bound is kept however the document is read.
+func roomOf(c change, from, to model) int {
+	room := 64
+	for key := 0; key <= 99; key++ {
+		old, was := from.cells[key]
+		now, is := to.cells[key]
+		if old != now || was != is {
+			room += 32
+		}
+	}
+	if c.kind == "install" {
+		room += 2 * (len(c.name) + len(c.src))
+	}
+	if old, was := from.procs[c.name]; was && c.kind != "call" {
+		room += 2 * (len(c.name) + len(old))
+	}
+	return room
 }
 
 // ask makes the change on a store.
-func ask(x *cellar.Store, c change) (int, []api.Act, api.Errno) {
+func ask(x *cellar.Store, c change) (answer, []api.Act) {
+	var a answer
+	var acts []api.Act
 	switch c.kind {
 	case "put":
-		acts, err := x.Put(c.key, c.value)
-		return 0, acts, err
+		acts, a.err = x.Put(c.key, c.value)
 	case "del":
-		acts, err := x.Del(c.key)
-		return 0, acts, err
+		acts, a.err = x.Del(c.key)
 	case "install":
-		return x.Install(c.name, c.src)
+		a.place, acts, a.err = x.Install(c.name, c.src)
+	case "drop":
+		acts, a.err = x.Drop(c.name)
+	case "call":
+		a.outcome, acts, a.err = x.Call(c.name, c.args, c.fuel)
 	}
-	acts, err := x.Drop(c.name)
-	return 0, acts, err
+	return a, acts
 }
 
 // use: a use of the files, and what the store is to hold in it.
@@ -225,20 +268,20 @@ func (u *use) make(t *testing.T, c change) []api.Act {
 	t.Helper()
 	next := u.now().clone()
 	want := next.make(c)
-	place, acts, err := ask(u.store, c)
-	if place != want.place || err != want.err {
-		t.Fatalf("P6, P7: %+v answers %d, %d, want %d, %d", c, place, err, want.place, want.err)
+	got, acts := ask(u.store, c)
+	if got != want {
+		t.Fatalf("P6 to P9: %+v answers %+v, want %+v; the store held %s", c, got, want, u.now().text())
 	}
 	if textOf(u.store) != next.text() {
-		t.Fatalf("P6, P7: behind %+v the store holds %s, want %s", c, textOf(u.store), next.text())
+		t.Fatalf("P6 to P9: behind %+v the store holds %s, want %s", c, textOf(u.store), next.text())
 	}
-	if err == api.OK {
+	if got.err != api.OK && len(acts) > 0 {
+		t.Fatalf("P12: %+v answers %d, and the acts %v", c, got.err, acts)
+	}
+	expectActsOfChange(t, acts, roomOf(c, u.now(), next))
+	if got.err == api.OK {
 		u.may = append(slices.Clone(u.may), next)
 	}
-	if err != api.OK && len(acts) > 0 {
-		t.Fatalf("P12: %+v answers %d, and the acts %v", c, err, acts)
-	}
-	expectActsOfChange(t, acts, want.room)
 	return acts
 }
 

@@ -413,7 +413,7 @@ func anyChange(r *rand.Rand) change {
 		names = []string{"", "A", "abcdefghi", "a.", "a b"}
 	}
 	name := names[r.Intn(len(names))]
-	switch r.Intn(6) {
+	switch r.Intn(9) {
 	case 0:
 		return put(edges[r.Intn(len(edges))], edges[r.Intn(len(edges))])
 	case 1:
@@ -428,6 +428,10 @@ func anyChange(r *rand.Rand) change {
 		return install(name, src)
 	case 4:
 		return install(name, pick(r, "", "fail", " stop\n007 ", blanks(400), blanks(401), "put", strings.Repeat("fail ", 80)))
+	case 5:
+		return install(name, anySource(r))
+	case 6, 7:
+		return anyCall(r, name)
 	}
 	return drop(name)
 }

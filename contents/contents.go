@@ -85,6 +85,16 @@ func (c *Contents) Drop(name string) api.Errno {
 	return api.OK
 }
 
+// Source gives what is kept under a name.
+func (c *Contents) Source(name string) (string, api.Errno) {
+	for i := 0; i < len(c.procs); i++ {
+		if c.procs[i].Name == name {
+			return c.procs[i].Source, api.OK
+		}
+	}
+	return "", api.ErrName
+}
+
 // Procs lists the procedures, their names rising.
 func (c *Contents) Procs() []api.Proc {
 	var list []api.Proc

@@ -92,3 +92,20 @@ func TestMaxProcs(t *testing.T) {
 		t.Errorf("one instead of another: %d, %d, %v", place, err, c.Procs())
 	}
 }
+
+func TestSource(t *testing.T) {
+	c := &Contents{}
+	c.Install("a", " stop 1")
+	c.Install("ab", "")
+	c.Install("b", "fail")
+	c.Install("b", "stop 2\n")
+	c.Drop("ab")
+	for _, x := range []struct {
+		name, want string
+		err        api.Errno
+	}{{"a", " stop 1", api.OK}, {"b", "stop 2\n", api.OK}, {"ab", "", api.ErrName}, {"", "", api.ErrName}, {"A", "", api.ErrName}} {
+		if got, err := c.Source(x.name); got != x.want || err != x.err {
+			t.Errorf("Source(%q) = %q, %d, want %q, %d", x.name, got, err, x.want, x.err)
+		}
+	}
+}
