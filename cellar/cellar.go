@@ -106,7 +106,11 @@ func (x *Store) Call(name string, args []int, fuel int) (api.Outcome, []api.Act,
 }
 
 // Sync makes lasting what there is (P10).
-func (x *Store) Sync() []api.Act { return nil }
+func (x *Store) Sync() []api.Act {
+	return []api.Act{{Kind: api.Sync, File: x.file}}
+}
 
-// Compact writes what there is into little room (P12).
-func (x *Store) Compact() []api.Act { return nil }
+// Compact writes what there is into little room (P12), and makes it lasting (P10).
+func (x *Store) Compact() []api.Act {
+	return x.move()
+}

@@ -257,9 +257,19 @@ func (u *use) open(t *testing.T, crashed bool) []api.Act {
 // opened: all acts of the last Open have been played.
 func (u *use) opened(t *testing.T) {
 	t.Helper()
+	u.lasts()
+	u.expectRoom(t)
+}
+
+// lasts: from now on a crash takes nothing of what the store holds.
+func (u *use) lasts() {
 	u.may = []model{u.now()}
+}
+
+func (u *use) expectRoom(t *testing.T) {
+	t.Helper()
 	if size := len(u.disk.file[0]) + len(u.disk.file[1]); size > u.now().room() {
-		t.Fatalf("P12: behind Open the files hold %q and %q: %d bytes, of at most %d", u.disk.file[0], u.disk.file[1], size, u.now().room())
+		t.Fatalf("P12: the files hold %q and %q: %d bytes, of at most %d", u.disk.file[0], u.disk.file[1], size, u.now().room())
 	}
 }
 
@@ -278,20 +288,21 @@ func (u *use) make(t *testing.T, c change) []api.Act {
 	if got.err != api.OK && len(acts) > 0 {
 		t.Fatalf("P12: %+v answers %d, and the acts %v", c, got.err, acts)
 	}
-	expectActsOfChange(t, acts, roomOf(c, u.now(), next))
+	expectNoErase(t, acts, roomOf(c, u.now(), next))
 	if got.err == api.OK {
 		u.may = append(slices.Clone(u.may), next)
 	}
 	return acts
 }
 
-func expectActsOfChange(t *testing.T, acts []api.Act, room int) {
+// expectNoErase: few acts, which append no more than this.
+func expectNoErase(t *testing.T, acts []api.Act, room int) {
 	t.Helper()
 	size := 0
 	for _, act := range acts {
 		size += len(act.Bytes)
 		if act.Kind == api.Erase {
-			t.Fatalf("P12: a change erases: %v", acts)
+			t.Fatalf("P12: a change or a Sync erases: %v", acts)
 		}
 	}
 	if len(acts) > api.MaxActs || size > room {
@@ -305,6 +316,48 @@ func (u *use) do(t *testing.T, changes ...change) {
 	for _, c := range changes {
 		u.disk.play(t, u.make(t, c))
 	}
+}
+
+// sync: Sync; the acts are still to be played.
+func (u *use) sync(t *testing.T) []api.Act {
+	t.Helper()
+	acts := u.store.Sync()
+	expectNoErase(t, acts, 64)
+	u.expectHeld(t, "Sync")
+	return acts
+}
+
+// compact: Compact; the acts are still to be played.
+func (u *use) compact(t *testing.T) []api.Act {
+	t.Helper()
+	acts := u.store.Compact()
+	if len(acts) > api.MaxActs {
+		t.Fatalf("P12: Compact answers %d acts", len(acts))
+	}
+	u.expectHeld(t, "Compact")
+	return acts
+}
+
+func (u *use) expectHeld(t *testing.T, behind string) {
+	t.Helper()
+	if textOf(u.store) != u.now().text() {
+		t.Fatalf("P10: behind %s the store holds %s, want %s", behind, textOf(u.store), u.now().text())
+	}
+}
+
+// doSync: Sync, its acts played.
+func (u *use) doSync(t *testing.T) {
+	t.Helper()
+	u.disk.play(t, u.sync(t))
+	u.lasts()
+}
+
+// doCompact: Compact, its acts played.
+func (u *use) doCompact(t *testing.T) {
+	t.Helper()
+	u.disk.play(t, u.compact(t))
+	u.lasts()
+	u.expectRoom(t)
 }
 
 // reopen: Open without a crash, its acts played.

@@ -140,28 +140,6 @@ func openAndCrash(t *testing.T, u use, crashed bool, depth int) {
 	}
 }
 
-// Long uses, with crashes here and there.
-func TestP5P11P12AnyUse(t *testing.T) {
-	for seed := int64(0); seed < 150; seed++ {
-		r := rand.New(rand.NewSource(seed))
-		u := newUse(t)
-		for i := 0; i < 120; i++ {
-			acts := u.make(t, anyChange(r))
-			switch r.Intn(10) {
-			case 0:
-				u.disk.play(t, acts[:r.Intn(len(acts)+1)])
-				crash(r, u)
-				reopenWithCrashes(t, r, u, true)
-			case 1:
-				u.disk.play(t, acts)
-				reopenWithCrashes(t, r, u, false)
-			default:
-				u.disk.play(t, acts)
-			}
-		}
-	}
-}
-
 func crash(r *rand.Rand, u *use) {
 	for f := range u.disk.file {
 		left := u.disk.lasting[f] + r.Intn(len(u.disk.file[f])-u.disk.lasting[f]+1)
@@ -269,7 +247,7 @@ func expectAnyFiles(t *testing.T, a, b string) {
 	u.disk.play(t, acts)
 	u.opened(t)
 	u.do(t, put(3, 4), drop("a"), install("a", "fail"), del(1))
-	u.reopen(t)
+	u.steps(t, syncs, compacts, changes(put(5, 6)), opens)
 }
 
 func TestP12ErrorsAnswerNoActs(t *testing.T) {
